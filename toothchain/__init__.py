@@ -1,0 +1,1 @@
+"""Saw-tooth sums and chains of exchanges, computed exactly."""

@@ -1,0 +1,1 @@
+"""Exact fractions and Euclid's ladders, on which everything else stands."""

@@ -1,0 +1,63 @@
+"""What counts as an integer, the pairs that are passed, and integers as texts."""
+
+from toothchain.errors import InvalidNumber
+
+# The least integer above sixty digits. It also cuts long integers into pieces
+# for their texts, because str() refuses integers of more than 4300 digits.
+_TOO_LONG = 10 ** 60
+_PIECE_DIGITS = 60
+
+
+class Long:
+    """An integer of any length that the package itself computed.
+
+    The package passes it where a passed integer may have sixty digits only.
+    """
+
+    def __init__(self, number):
+        self.number = number
+
+
+def is_short_integer(value):
+    """Whether the value is an integer that may be passed."""
+    return is_any_integer(value) and -_TOO_LONG < value < _TOO_LONG
+
+
+def is_any_integer(value):
+    """Whether the value is an integer, whatever its length."""
+    return isinstance(value, int) and not isinstance(value, bool)
+
+
+def integer_of(value):
+    """The integer that was passed, or None if the value is none."""
+    if isinstance(value, Long):
+        return value.number
+    return value if is_short_integer(value) else None
+
+
+def checked_integer(value):
+    """The integer that was passed, or an error if the value is none."""
+    number = integer_of(value)
+    if number is None:
+        raise InvalidNumber(value)
+    return number
+
+
+def checked_pair(a, b):
+    """The two integers of the pair that was passed, or an error for the first wrong one."""
+    first, second = checked_integer(a), checked_integer(b)
+    if second < 1:
+        raise InvalidNumber(b)
+    return first, second
+
+
+def integer_text(number):
+    """The decimal digits of an integer of any length, after `-` if it is negative."""
+    rest = abs(number)
+    pieces = []
+    while rest >= _TOO_LONG:
+        rest, piece = divmod(rest, _TOO_LONG)
+        pieces.append(str(piece).zfill(_PIECE_DIGITS))
+    pieces.append(str(rest))
+    pieces.append("-" if number < 0 else "")
+    return "".join(pieces[::-1])
