@@ -27,6 +27,10 @@ BARRED_NAMES = set(
 BARRED_NODES = (
     ast.Global, ast.AsyncFunctionDef, ast.AsyncFor, ast.AsyncWith, ast.Await, ast.Div, ast.MatMult, ast.Import,
 )
+BARRED_WORDS = set(
+    "type typing typing_extensions enum Enum IntEnum StrEnum Flag IntFlag Generic Protocol ABC ABCMeta namedtuple"
+    " NamedTuple TypedDict TYPE_CHECKING abstractmethod dataclass overload contextmanager".split()
+)
 PLAIN_NAME = re.compile(r"_?[A-Za-z][A-Za-z0-9_]*|_|__[a-z]+__")
 
 
@@ -56,6 +60,36 @@ def names_in(node):
     if isinstance(node, (ast.FunctionDef, ast.ClassDef)):
         return [node.name]
     return []
+
+
+def exponents(tree):
+    """The right sides of all powers, also of those that are assigned at once."""
+    for node in ast.walk(tree):
+        if isinstance(node, ast.BinOp) and isinstance(node.op, ast.Pow):
+            yield node.right
+        if isinstance(node, ast.AugAssign) and isinstance(node.op, ast.Pow):
+            yield node.value
+
+
+def is_written_exponent(node):
+    """L27: a literal integer from 0 to 64."""
+    return isinstance(node, ast.Constant) and type(node.value) is int and 0 <= node.value <= 64
+
+
+def methods(tree):
+    for node in ast.walk(tree):
+        if isinstance(node, ast.ClassDef):
+            yield from (one for one in node.body if isinstance(one, ast.FunctionDef))
+
+
+def is_property(node):
+    return bool(node.decorator_list)
+
+
+def stored_attributes(tree):
+    for node in ast.walk(tree):
+        if isinstance(node, ast.Attribute) and isinstance(node.ctx, ast.Store):
+            yield node.attr
 
 
 class FileTests(unittest.TestCase):
@@ -122,7 +156,8 @@ class StatementTests(unittest.TestCase):
             for name in names_in(node):
                 self.assertRegex(name, rf"\A({PLAIN_NAME.pattern})\Z", place)
                 self.assertNotIn(name, BARRED_NAMES, place)
-                if isinstance(node, ast.Name) and name in vars(builtins):
+                # An interactive Python keeps its last value among the builtins, as `_`.
+                if isinstance(node, ast.Name) and name in vars(builtins) and name != "_":
                     self.assertIn(name, ALLOWED_BUILTINS, place)
                     self.assertIsInstance(node.ctx, ast.Load, place)
 
@@ -146,14 +181,78 @@ class StatementTests(unittest.TestCase):
             self.fail(f"{place}: take a list, because classes of the package have __eq__")
 
     def test_exponents(self):
-        for place, node in nodes(ast.BinOp):
-            if isinstance(node.op, ast.Pow) and isinstance(node.left, ast.Constant):
-                self.assertIsInstance(node.right, ast.Constant, place)
-                self.assertTrue(0 <= node.right.value <= 64, place)
+        for path, tree in trees():
+            for exponent in exponents(tree):
+                self.assertTrue(is_written_exponent(exponent), f"{path.name}:{exponent.lineno}")
+
+    def test_exponents_that_the_rule_bars(self):
+        for text in ("a ** n", "2 ** n", "self._top ** exponent", "2 ** 65", "2 ** -1", "2 ** True", "2 ** (1 + 1)",
+                     "total = top ** n + 1", "n **= k", "one(2 ** len(rows))"):
+            self.assertEqual([is_written_exponent(one) for one in exponents(ast.parse(text))], [False], text)
+        for text in ("10 ** 60", "n ** 0", "(10 ** 50) ** 16", "n **= 2", "(a + b) ** 64"):
+            self.assertTrue(all(is_written_exponent(one) for one in exponents(ast.parse(text))), text)
+            self.assertTrue(list(exponents(ast.parse(text))), text)
+
+    def test_texts_lengths_and_equality_assign_nothing(self):
+        for path, tree in trees():
+            for method in methods(tree):
+                if method.name in ("__eq__", "__len__", "__str__", "__repr__"):
+                    for node in ast.walk(method):
+                        self.assertNotIsInstance(node, (ast.Assign, ast.AugAssign, ast.NamedExpr, ast.Delete), path)
 
     def test_raised_errors_are_made_on_the_spot(self):
         for place, node in nodes(ast.Raise):
             self.assertIsInstance(node.exc, ast.Call, place)
+
+
+class NameTests(unittest.TestCase):
+    def test_no_variable_has_the_name_of_an_import_or_a_class(self):
+        for path, tree in trees():
+            bound = {alias.name for node in tree.body if isinstance(node, ast.ImportFrom) for alias in node.names}
+            bound |= {node.name for node in tree.body if isinstance(node, ast.ClassDef)}
+            for node in ast.walk(tree):
+                if isinstance(node, ast.arg) or isinstance(node, ast.Name) and isinstance(node.ctx, ast.Store):
+                    self.assertNotIn(names_in(node)[0], bound, path)
+
+    def test_names_are_bound_once_at_module_level(self):
+        for path, tree in trees():
+            bound = []
+            for node in tree.body:
+                if isinstance(node, ast.ImportFrom):
+                    bound.extend(alias.name for alias in node.names)
+                elif isinstance(node, ast.Assign):
+                    bound.extend(names_in(node.targets[0]))
+                else:
+                    bound.extend(names_in(node))
+            self.assertEqual(len(bound), len(set(bound)), path)
+
+    def test_methods_properties_and_attributes_have_different_names(self):
+        plain, read, stored = set(), set(), set()
+        for _, tree in trees():
+            plain |= {node.name for node in methods(tree) if not is_property(node)}
+            read |= {node.name for node in methods(tree) if is_property(node)}
+            stored |= set(stored_attributes(tree))
+        self.assertEqual((plain & read, plain & stored), (set(), set()))
+
+    def test_methods_and_attributes_have_no_names_of_builtin_values(self):
+        barred = {name for kind in (str, int, list, dict, set, bytes) for name in vars(kind)}
+        for path, tree in trees():
+            names = [node.name for node in methods(tree) if not node.name.startswith("__")]
+            for name in [*names, *stored_attributes(tree)]:
+                self.assertNotIn(name, barred, path)
+
+    def test_barred_words(self):
+        for place, node in nodes(ast.Name, ast.Attribute, ast.arg, ast.FunctionDef, ast.ClassDef):
+            self.assertFalse(BARRED_WORDS & set(names_in(node)), place)
+        for path in files():
+            words = set(re.findall(r"\w+", path.read_text(encoding="ascii")))
+            self.assertFalse({"_wall", "_WallAttr", "Meta", "metaclass"} & words, path)
+
+    def test_library_functions_are_called_by_position(self):
+        library = set().union(*LIBRARY.values())
+        for place, node in nodes(ast.Call):
+            if isinstance(node.func, ast.Name) and node.func.id in library:
+                self.assertEqual(node.keywords, [], place)
 
 
 if __name__ == "__main__":

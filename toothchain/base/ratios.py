@@ -94,7 +94,10 @@ class Ratio:
         """The product of as many factors that are this ratio, 1 for none."""
         if not is_short_integer(exponent) or not 0 <= exponent <= _MAX_EXPONENT:
             raise InvalidNumber(exponent)
-        return ratio_of(self._top ** exponent, self._bottom ** exponent)
+        top, bottom = 1, 1
+        for _ in range(exponent):
+            top, bottom = top * self._top, bottom * self._bottom
+        return ratio_of(top, bottom)
 
 
 def total(numbers):
