@@ -4,8 +4,10 @@ import math
 import random
 import unittest
 from fractions import Fraction
+from unittest import mock
 
-from tests.samples import SIXTY, SIXTY_ONE, Refusals, long_integers, not_integers, plain_wrong_values
+from tests.samples import SIXTY, SIXTY_ONE, Refusals, long_integers, neighbors, not_integers, plain_wrong_values
+from toothchain.base import ladders
 from toothchain.base.ladders import Ladder, are_coprime, common_factor, inverse_of, pair_from
 from toothchain.base.ratios import Ratio
 from toothchain.errors import InvalidNumber, InvalidOperation
@@ -107,6 +109,53 @@ class StepTests(unittest.TestCase):
         ladder = Ladder(*fibonacci_pair())
         self.assertEqual(ladder.quotients, (0,) + (1,) * (len(ladder) - 2) + (2,))
         self.assertGreater(len(ladder), 280)
+
+
+class ManyQuotientsTests(unittest.TestCase):
+    """Ladders of the neighbors in 1, 2, 3, 5, 8, .. up to sixty digits, both ways round."""
+
+    def test_there_are_many(self):
+        self.assertEqual(len(list(neighbors())), 286)
+        self.assertGreaterEqual(list(neighbors())[-1][1], 10 ** 59)
+
+    def test_smaller_one_first(self):
+        for many, (x, y) in enumerate(neighbors()):
+            quotients = (0, *(1,) * many, 2)
+            self.assertEqual(Ladder(x, y).quotients, quotients)
+            self.assertEqual(tuple(Ladder(x, y)), quotients)
+            self.assertEqual(len(Ladder(x, y)), many + 2)
+
+    def test_greater_one_first(self):
+        for many, (x, y) in enumerate(neighbors()):
+            ladder = Ladder(y, x)
+            self.assertEqual(len(ladder), many + 1)
+            self.assertEqual(ladder.quotients, (*(1,) * many, 2))
+
+    def test_remainders_and_common_factor(self):
+        row = [1]
+        for x, y in neighbors():
+            row.append(y)
+            for ladder in (Ladder(x, y), Ladder(y, x)):
+                self.assertEqual((ladder.common, ladder.coprime_inverse), (1, pow(ladder.a, -1, ladder.b)))
+            self.assertEqual(Ladder(x, y).remainders, tuple(row[::-1]))
+            self.assertEqual(Ladder(y, x).remainders, tuple(row[-2::-1]))
+
+    def test_convergents(self):
+        for x, y in neighbors():
+            convergents = Ladder(x, y).convergents
+            self.assertEqual((convergents[0], convergents[-1]), ((0, 1), (x, y)))
+            for at in range(len(convergents) - 1):
+                (p, q), (u, v) = convergents[at], convergents[at + 1]
+                self.assertEqual(p * v - q * u, 1 if at % 2 else -1)
+            self.assertEqual(Ladder(y, x).convergents, tuple((q, p) for p, q in convergents[1:]))
+
+    def test_convergents_are_worked_out_for_those_who_ask_only(self):
+        with mock.patch.object(ladders, "_convergents_of") as convergents_of:
+            for x, y in neighbors():
+                ladder = Ladder(y, x)
+                self.assertEqual((ladder.a, ladder.b, ladder.common, ladder[0], len(ladder)), (
+                    y, x, ladder.remainders[-1], ladder.quotients[0], len(list(ladder))))
+            convergents_of.assert_not_called()
 
 
 class LawTests(unittest.TestCase):

@@ -15,7 +15,6 @@ class Ladder:
     def __init__(self, a, b):
         self._a, self._b = checked_pair(a, b)
         self._quotients, self._remainders = _euclid_steps(self._a, self._b)
-        self._convergents = _convergents_of(self._quotients)
 
     @property
     def a(self):
@@ -45,14 +44,15 @@ class Ladder:
     @property
     def convergents(self):
         """The fractions of the first quotients, of the first two, and so on."""
-        return self._convergents
+        # Worked out when they are asked for: they take longer than all the rest.
+        return _convergents_of(self._quotients)
 
     @property
     def coprime_inverse(self):
         """The inverse of a, or None if the pair is not coprime."""
         if self._remainders[-1] != 1:
             return None
-        return _inverse_from(self._convergents, self._b)
+        return _inverse_from(self._quotients, self._b)
 
     @property
     def alternating(self):
@@ -124,12 +124,19 @@ def _are_quotients(value):
 
 
 def _euclid_steps(a, b):
-    quotients = []
-    remainders = []
-    while b > 0:
-        quotients.append(a // b)
-        remainders.append(b)
-        a, b = b, a % b
+    quotient, rest = divmod(a, b)
+    quotients = [quotient]
+    remainders = [b]
+    while rest:
+        remainders.append(rest)
+        a, b = b, rest
+        rest = a - b
+        # Many quotients are 1, and a difference takes less time than a division.
+        if rest < b:
+            quotients.append(1)
+        else:
+            quotient, rest = divmod(a, b)
+            quotients.append(quotient)
     return tuple(quotients), tuple(remainders)
 
 
@@ -142,13 +149,16 @@ def _convergents_of(quotients):
     return tuple(convergents)
 
 
-def _inverse_from(convergents, b):
+def _inverse_from(quotients, b):
     # A coprime pair with one quotient has b = 1, and then the only remainder is 0.
-    if len(convergents) == 1:
+    if len(quotients) == 1:
         return 0
-    below = convergents[-2][1]
-    # By [2.1] a times this denominator leaves 1 or -1 on division by b, in turn.
-    return below if len(convergents) % 2 == 0 else b - below
+    below, last = 0, 1
+    for quotient in quotients[1:]:
+        below, last = last, quotient * last + below
+    # By [2.1] a times the denominator of the last convergent but one leaves 1 or
+    # -1 on division by b, in turn.
+    return below if len(quotients) % 2 == 0 else b - below
 
 
 def _ladder_text(a, b, quotients):
