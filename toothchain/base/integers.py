@@ -7,6 +7,10 @@ from toothchain.errors import InvalidNumber
 _TOO_LONG = 10 ** 60
 _PIECE_DIGITS = 60
 
+# The least integer above the eight hundred digits that one inside a passed
+# certificate may have.
+_TOO_LONG_INSIDE = (10 ** 50) ** 16
+
 
 class Long:
     """An integer of any length that the package itself computed.
@@ -28,6 +32,11 @@ def is_any_integer(value):
     return isinstance(value, int) and not isinstance(value, bool)
 
 
+def is_inner_integer(value):
+    """Whether the value is an integer that may stand inside a passed certificate."""
+    return is_any_integer(value) and -_TOO_LONG_INSIDE < value < _TOO_LONG_INSIDE
+
+
 def integer_of(value):
     """The integer that was passed, or None if the value is none."""
     if isinstance(value, Long):
@@ -43,12 +52,17 @@ def checked_integer(value):
     return number
 
 
+def checked_from(least, value):
+    """The integer that was passed, or an error if the value is none or a lesser one."""
+    number = checked_integer(value)
+    if number < least:
+        raise InvalidNumber(value)
+    return number
+
+
 def checked_pair(a, b):
     """The two integers of the pair that was passed, or an error for the first wrong one."""
-    first, second = checked_integer(a), checked_integer(b)
-    if second < 1:
-        raise InvalidNumber(b)
-    return first, second
+    return checked_integer(a), checked_from(1, b)
 
 
 def integer_text(number):

@@ -1,0 +1,1 @@
+"""Saw teeth, their sums, and what shows that these are right."""
