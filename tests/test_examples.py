@@ -4,6 +4,9 @@ import doctest
 import unittest
 
 from toothchain.base import ladders, ratios
+from toothchain.counts import lines
+from toothchain.sums import alike, chains, several, shifts, teeth
+from toothchain.turns import turns
 
 RATIOS = """
 >>> [str(Ratio(6, -8)), str(Ratio(1, 2) + Ratio(1, 3)), str(2 - Ratio(1, 3)), str(Ratio(-7, 2).part), Ratio(-7, 2).floor, Ratio(4, 2) == 2, Ratio(1, 2).compare(1)]
@@ -20,14 +23,74 @@ LADDERS = """
 [(-3, 1, 2), 4, None, 0, (5, 12), True]
 """
 
-MODULES = {"ratios": (ratios, RATIOS), "ladders": (ladders, LADDERS)}
+TEETH = """
+>>> [str(tooth(Ratio(7, 4))), str(tooth(-3)), str(bend(Ratio(1, 2))), str(tooth_sum(1, 3)), str(tooth_sum(5, 12)), str(tooth_sum(2, 5)), str(tooth_sum(10, 24))]
+['1/4', '0', '-1/12', '1/18', '-1/72', '0', '-1/72']
+>>> [[str(one) for one in tooth_row(2, 3)], str(greatest_sum(5)), [str(one) for one in ladder_sum(17, 12)], [str(one) for one in ladder_sum(3, 1)]]
+[['0', '-1/36', '-1/36'], '1/5', ['2', '5/6', '-3'], ['0', '0', '0']]
+"""
+
+CHAINS = """
+>>> is_chain_certificate(5, 12, ((5, 12, -1, 72), (12, 5, 0, 1), (2, 5, 0, 3), (5, 2, 0, 1), (1, 2, 0, 1), (2, 1, 0, 1), (0, 1, 0, 1)))
+True
+>>> walk = Walk(5, 12)
+>>> [walk.exchange(), walk.shift(), str(walk.offset), walk.sign, walk.steps, str(walk), walk.negate(), walk.undo(), walk.invert()]
+[(12, 5), (2, 5), '-1/72', -1, ('exchange', 'shift'), 'walk from 5/12: 2 steps, at 2/5', (-2, 5), (2, 5), (3, 5)]
+>>> [walk.finish() > 0, str(walk.result), is_chain_certificate(5, 12, walk.certificate()), is_chain_certificate(2, 4, ((2, 4, 0, 1), (1, 2, 0, 1), (0, 2, 0, 1)))]
+[True, '-1/72', True, False]
+"""
+
+ALIKE = """
+>>> [str(twelfths(1, 3)), is_zero_sum(2, 5), has_whole_twelfths(4, 10), have_like_rests(1, 5, 8), have_equal_sums(1, 5, 8), sum_classes(5), zeros(10)]
+['2/3', True, True, True, False, ((1,), (2, 3), (4,)), (3, 7)]
+>>> [rest_classes(8), sum_classes(8), who_has(3, Ratio(1, 18)), nearest(5, 1), nearest(5, Ratio(1, 10)), sum_classes(1)]
+[((1, 5), (3, 7)), ((1,), (3,), (5,), (7,)), (1,), (1,), (1, 2, 3), ((0,),)]
+"""
+
+SEVERAL = """
+>>> [[str(one) for one in three_terms(2, 3, 5)], str(three_total(2, 3, 5)), divisors_of(12), divisor_sum(12), divisor_pairs(2, 1, 3), str(divisor_total(2, 1, 3))]
+[['0', '1/18', '-1/5'], '-13/90', (1, 2, 3, 4, 6, 12), 28, ((2, 3), (1, 6), (4, 6)), '1/6']
+>>> [str(row_total(3)), str(row_total(3, 1)), str(row_total(3, -4)), str(row_total(2))]
+['1/162', '-1/324', '-1/324', '0']
+"""
+
+TURNS = """
+>>> turn = word_turn("UUV")
+>>> [str(turn), turn.phi, turn.psi, turn.inverse().phi, str(turn * turn), (turn * turn).phi, (turn * turn).word(), str(-turn), (-turn).phi]
+['3 2; 1 1', 4, 1, -4, '11 8; 4 3', 5, 'UUVUUV', '-3 -2; -1 -1', 4]
+>>> [Turn(5, 2, 2, 1).word(), Turn(0, -1, 1, 0).phi, Turn(0, -1, 1, 1).psi, Turn(1, 0, 0, 1).word(), turn.around(Turn(0, -1, 1, 0)).psi, turn.power(-2).psi, Turn(1, 7, 0, 1).phi]
+['UUVV', 0, -2, '', 1, -2, 7]
+"""
+
+SHIFTS = """
+>>> [str(shifted_sum(1, 1, 0, Ratio(1, 3))), str(shifted_sum(2, 3, Ratio(1, 2), 0)), str(shifted_sum(3, 2, 0, Ratio(1, 2))), str(shifted_sum(5, 12, 0, 7))]
+['1/36', '1/9', '-1/8', '-1/72']
+>>> [str(shifted_exchange(2, 3, Ratio(1, 2), 0)), str(shifted_exchange(5, 12, 0, 0)), [str(one) for one in shifted_row(2, 3, Ratio(1, 2), 0)]]
+['-1/72', '-1/72', ['0', '1/18', '1/18']]
+>>> HALF = Ratio(1, 2)
+>>> is_shifted_certificate(2, 3, HALF, 0, ((2, 3, HALF, 0, Ratio(1, 9)), (3, 2, 0, HALF, Ratio(-1, 8)), (1, 2, HALF, HALF, Ratio(-1, 8)), (2, 1, HALF, HALF, 0)))
+True
+"""
+
+LINES = """
+>>> [line_sum(4, 3, 1, 2), line_moment(4, 3, 1, 2), line_square(4, 3, 1, 2), line_row(4, 3, 1, 2), line_sum(3, -2, 0, 3), line_sum(10 ** 20, 1, 0, 1)]
+[10, 23, 38, (0, 2, 3, 5), -3, 4999999999999999999950000000000000000000]
+>>> [whole_steps(10, 2, 1, 5), rest_total(4, 3, 1, 2), rest_square(3, 2, 0, 5), str(tooth_line(3, 1, 0, 3)), str(tooth_line(2, 1, 0, 4)), line_moment(12, 5, 0, 12)]
+[2, 2, 20, '0', '-1/4', 178]
+"""
+
+MODULES = {
+    "ratios": (ratios, RATIOS), "ladders": (ladders, LADDERS), "teeth": (teeth, TEETH), "chains": (chains, CHAINS),
+    "alike": (alike, ALIKE), "several": (several, SEVERAL), "turns": (turns, TURNS), "shifts": (shifts, SHIFTS),
+    "lines": (lines, LINES),
+}
 
 
 def document_tests():
     """One doctest for each heading; its names are those of the interface, from their modules."""
     parser = doctest.DocTestParser()
     for name, (module, text) in MODULES.items():
-        yield parser.get_doctest(text, dict(vars(module)), name, None, 0)
+        yield parser.get_doctest(text, {"Ratio": ratios.Ratio, **vars(module)}, name, None, 0)
 
 
 class ExampleTests(unittest.TestCase):

@@ -9,6 +9,39 @@ FUNCTIONS = {
     "toothchain.base.ladders": {
         "common_factor": "(a, b)", "inverse_of": "(a, b)", "are_coprime": "(a, b)", "pair_from": "(quotients)",
     },
+    "toothchain.sums.teeth": {
+        "tooth": "(number)", "bend": "(number)", "tooth_sum": "(a, b)", "tooth_row": "(a, b)", "greatest_sum": "(b)",
+        "ladder_sum": "(a, b)",
+    },
+    "toothchain.sums.chains": {"chain_certificate": "(a, b)", "is_chain_certificate": "(a, b, value)"},
+    "toothchain.sums.alike": {
+        "twelfths": "(a, b)", "is_zero_sum": "(a, b)", "has_whole_twelfths": "(a, b)", "have_like_rests": "(a, c, b)",
+        "have_equal_sums": "(a, c, b)", "sum_classes": "(b)", "rest_classes": "(b)", "who_has": "(b, wish)",
+        "nearest": "(b, wish)", "zeros": "(b)",
+    },
+    "toothchain.sums.several": {
+        "three_terms": "(a, b, c)", "three_total": "(a, b, c)", "divisors_of": "(number)", "divisor_sum": "(number)",
+        "divisor_pairs": "(number, a, b)", "divisor_total": "(number, a, b)", "row_total": "(b, shift=0)",
+    },
+    "toothchain.turns.turns": {"word_turn": "(word)", "is_word": "(value)"},
+    "toothchain.sums.shifts": {
+        "shifted_sum": "(a, b, x, y)", "shifted_row": "(a, b, x, y)", "shifted_exchange": "(a, b, x, y)",
+        "shifted_certificate": "(a, b, x, y)", "is_shifted_certificate": "(a, b, x, y, value)",
+    },
+    "toothchain.counts.lines": {
+        name: "(n, a, c, m)" for name in (
+            "line_sum", "line_moment", "line_square", "line_row", "whole_steps", "rest_total", "rest_square",
+            "tooth_line",
+        )
+    },
+}
+
+CONSTANTS = {
+    "toothchain.sums.teeth": {"MAX_PLAIN": 2000},
+    "toothchain.sums.chains": {"MAX_ROWS": 2000, "MAX_DIGITS": 800},
+    "toothchain.sums.alike": {"MAX_CLASSES": 300},
+    "toothchain.sums.several": {"MAX_DIVIDED": 60},
+    "toothchain.turns.turns": {"MAX_WORD": 400},
 }
 
 CLASSES = {
@@ -19,6 +52,8 @@ CLASSES = {
     },
     "toothchain.base.ratios": {"Ratio": "(top, bottom=1)"},
     "toothchain.base.ladders": {"Ladder": "(a, b)"},
+    "toothchain.sums.chains": {"Walk": "(a, b)"},
+    "toothchain.turns.turns": {"Turn": "(p, q, r, t)"},
 }
 
 METHODS = {
@@ -31,6 +66,15 @@ METHODS = {
         "shifted": "(self, times)", "exchanged": "(self)",
         "__getitem__": None, "__iter__": None, "__len__": None, "__eq__": None, "__str__": None,
     },
+    ("toothchain.sums.chains", "Walk"): {
+        "shift": "(self, times=None)", "negate": "(self)", "invert": "(self)", "reduce": "(self)", "exchange": "(self)",
+        "finish": "(self)", "certificate": "(self)", "undo": "(self, *, many=1)", "twin": "(self)",
+        "__bool__": None, "__len__": None, "__eq__": None, "__str__": None,
+    },
+    ("toothchain.turns.turns", "Turn"): {
+        "inverse": "(self)", "power": "(self, exponent)", "around": "(self, other)", "word": "(self)",
+        "__mul__": None, "__neg__": None, "__eq__": None, "__str__": None,
+    },
 }
 
 PROPERTIES = {
@@ -38,6 +82,8 @@ PROPERTIES = {
     ("toothchain.base.ladders", "Ladder", (3, 4)): (
         "a", "b", "quotients", "remainders", "common", "convergents", "coprime_inverse", "alternating",
     ),
+    ("toothchain.sums.chains", "Walk", (3, 4)): ("pair", "sign", "offset", "start", "steps", "result"),
+    ("toothchain.turns.turns", "Turn", (3, 2, 1, 1)): ("rows", "trace", "phi", "psi"),
 }
 
 
@@ -49,6 +95,12 @@ class InterfaceTests(unittest.TestCase):
                 self.assertTrue(inspect.isfunction(function), name)
                 self.assertEqual(function.__module__, module)
                 self.assertEqual(str(inspect.signature(function)), signature)
+
+    def test_constants(self):
+        for module, constants in CONSTANTS.items():
+            for name, value in constants.items():
+                found = vars(importlib.import_module(module))[name]
+                self.assertEqual((found, type(found)), (value, int), name)
 
     def test_classes(self):
         for module, classes in CLASSES.items():

@@ -1,0 +1,1 @@
+"""Exact counts that depend on sums of teeth."""

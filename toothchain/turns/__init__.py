@@ -1,0 +1,1 @@
+"""Turns, which are tables of four integers, and their words."""
