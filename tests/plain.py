@@ -97,3 +97,16 @@ def exchanged_shifted_sum(a, b, x, y):
         value += sign * plain_shifted_exchange(a, b, x, y)
         a, b, x, y, sign = b, a, y, x, -sign
     return value + sign * plain_tooth(a * y + x) * plain_tooth(y)
+
+
+def shifted_rows_up_to(quotients, u, v):
+    """Rows from the pair (0, 1) with shifts on, by shifts with these multiples and exchanges in turn."""
+    p, q, value = 0, 1, plain_tooth(u) * plain_tooth(v)
+    rows = [(p, q, u, v, value)]
+    for quotient in quotients:
+        p, u = p + quotient * q, (u - quotient * v) % 1
+        rows.append((p, q, u, v, value))
+        value = plain_shifted_exchange(p, q, u, v) - value
+        p, q, u, v = q, p, v, u
+        rows.append((p, q, u, v, value))
+    return rows

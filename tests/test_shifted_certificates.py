@@ -7,6 +7,7 @@ from fractions import Fraction
 
 from tests.plain import (
     chain_up_to, exact, exchanged_shifted_sum, plain_shifted_exchange, plain_shifted_sum, plain_tooth, ratio,
+    shifted_rows_up_to,
 )
 from tests.samples import (
     LARGE_PAIRS, LONGEST, SIXTY, SIXTY_ONE, Refusals, judged_values, not_integers, not_numbers, random_pairs,
@@ -340,6 +341,20 @@ class SizeTests(Judging):
         for top, expected in ((10 ** 800 - 2, True), (2 - 10 ** 800, True), (10 ** 800 + 1, False)):
             u = Fraction(top, 3)
             value = ((0, 1, ratio(u % 1), HALF, 0), (0, 1, ratio(u), HALF, 0))
+            self.assertIs(self.judged(value), expected)
+
+    def test_eight_hundred_digits_in_denominators(self):
+        # Found by trial: the last row alone has a longer integer, the denominator of its number.
+        quotients = (500,) * 214 + (
+            5999, 1, 36, 38, 1, 39, 36, 39, 38, 37, 3, 39, 39, 2, 1, 9, 4, 39, 39, 2, 1, 4, 1, 4, 1, 19, 1, 24, 1, 38, 3,
+            39, 39, 38, 2, 39, 1, 39, 36, 38, 2, 39, 5, 14,
+        )
+        up = shifted_rows_up_to(quotients, Fraction(1, 10 ** 59 + 1), Fraction(2, 10 ** 59 + 3))
+        self.assertEqual(len(str(up[-1][4].denominator)), 801)
+        self.assertLess(abs(up[-1][4].numerator), 10 ** 800)
+        rows = [(p, q, ratio(u), ratio(v), ratio(number)) for p, q, u, v, number in up]
+        for many, expected in ((len(rows) - 1, True), (len(rows), False)):
+            value = (*rows[:many], *rows[many - 2::-1])
             self.assertIs(self.judged(value), expected)
 
     def test_long_rows_come_without_delay(self):
