@@ -3,7 +3,7 @@
 from toothchain.errors import InvalidNumber
 
 # The least integer above sixty digits. It also cuts long integers into pieces
-# for their texts, because str() refuses integers of more than 4300 digits.
+# for their texts, because str() and int() refuse more than 4300 digits.
 _TOO_LONG = 10 ** 60
 _PIECE_DIGITS = 60
 
@@ -24,12 +24,13 @@ class Long:
 
 def is_short_integer(value):
     """Whether the value is an integer that may be passed."""
-    return is_any_integer(value) and -_TOO_LONG < value < _TOO_LONG
+    # Each argument comes here, so the words of is_any_integer stand here once more.
+    return isinstance(value, int) and value is not True and value is not False and -_TOO_LONG < value < _TOO_LONG
 
 
 def is_any_integer(value):
     """Whether the value is an integer, whatever its length."""
-    return isinstance(value, int) and not isinstance(value, bool)
+    return isinstance(value, int) and value is not True and value is not False
 
 
 def is_inner_integer(value):
@@ -39,17 +40,18 @@ def is_inner_integer(value):
 
 def integer_of(value):
     """The integer that was passed, or None if the value is none."""
-    if isinstance(value, Long):
-        return value.number
-    return value if is_short_integer(value) else None
+    if is_short_integer(value):
+        return value
+    return value.number if isinstance(value, Long) else None
 
 
 def checked_integer(value):
     """The integer that was passed, or an error if the value is none."""
-    number = integer_of(value)
-    if number is None:
-        raise InvalidNumber(value)
-    return number
+    if is_short_integer(value):
+        return value
+    if isinstance(value, Long):
+        return value.number
+    raise InvalidNumber(value)
 
 
 def checked_from(least, value):
@@ -62,6 +64,10 @@ def checked_from(least, value):
 
 def checked_pair(a, b):
     """The two integers of the pair that was passed, or an error for the first wrong one."""
+    # Nearly all pairs are plain ones, and these are told at once.
+    if isinstance(a, int) and isinstance(b, int) and a is not True and a is not False and b is not True:
+        if -_TOO_LONG < a < _TOO_LONG and 0 < b < _TOO_LONG:
+            return a, b
     return checked_integer(a), checked_from(1, b)
 
 
@@ -75,3 +81,18 @@ def integer_text(number):
     pieces.append(str(rest))
     pieces.append("-" if number < 0 else "")
     return "".join(pieces[::-1])
+
+
+def integer_from(text):
+    """The integer of any length with this text, or None if there is none."""
+    digits = text[1:] if text.startswith("-") else text
+    if not digits.isascii() or not digits.isdigit():
+        return None
+    # No text begins with a 0, but for that of 0 itself.
+    if digits.startswith("0") and text != "0":
+        return None
+    padded = digits.zfill(len(digits) + -len(digits) % _PIECE_DIGITS)
+    number = 0
+    for at in range(0, len(padded), _PIECE_DIGITS):
+        number = number * _TOO_LONG + int(padded[at:at + _PIECE_DIGITS])
+    return number if text == digits else -number

@@ -50,9 +50,7 @@ class Ladder:
     @property
     def coprime_inverse(self):
         """The inverse of a, or None if the pair is not coprime."""
-        if self._remainders[-1] != 1:
-            return None
-        return _inverse_from(self._quotients, self._b)
+        return inverse_or_none(self._a, self._b)
 
     @property
     def alternating(self):
@@ -96,7 +94,8 @@ def common_factor(a, b):
 
 def inverse_of(a, b):
     """The inverse of a, an integer from 0 to b - 1, for a coprime pair."""
-    inverse = Ladder(a, b).coprime_inverse
+    first, second = checked_pair(a, b)
+    inverse = inverse_or_none(first, second)
     if inverse is None:
         raise InvalidOperation("only coprime integers have an inverse")
     return inverse
@@ -112,6 +111,25 @@ def pair_from(quotients):
     if not _are_quotients(quotients):
         raise InvalidOperation("no ladder is read from these quotients")
     return _convergents_of(quotients)[-1]
+
+
+def inverse_or_none(a, b):
+    """The inverse of a, or None if the pair is not coprime, for integers of any length."""
+    # The upper digits of both integers are remainders. The lower ones are what a is
+    # multiplied by to get them, up to a multiple of b: so one division does for both.
+    bits = b.bit_length() + 2
+    upper, lower = b << bits, (a % b << bits) + 1
+    while lower > b:
+        upper = upper % lower
+        lower = lower % upper
+    # No remainder is left in `lower`, and the greatest common factor in `upper`.
+    return (upper - (1 << bits)) % b if lower == b else None
+
+
+def check_coprime(a, b, c=1):
+    """An error if two of the integers have a common factor."""
+    if gcd(a, b) != 1 or gcd(b, c) != 1 or gcd(c, a) != 1:
+        raise InvalidOperation("only integers of which any two are coprime are taken here")
 
 
 def _are_quotients(value):
@@ -147,18 +165,6 @@ def _convergents_of(quotients):
         before, last = last, (quotient * last[0] + before[0], quotient * last[1] + before[1])
         convergents.append(last)
     return tuple(convergents)
-
-
-def _inverse_from(quotients, b):
-    # A coprime pair with one quotient has b = 1, and then the only remainder is 0.
-    if len(quotients) == 1:
-        return 0
-    below, last = 0, 1
-    for quotient in quotients[1:]:
-        below, last = last, quotient * last + below
-    # By [2.1] a times the denominator of the last convergent but one leaves 1 or
-    # -1 on division by b, in turn.
-    return below if len(quotients) % 2 == 0 else b - below
 
 
 def _ladder_text(a, b, quotients):

@@ -2,17 +2,30 @@
 
 from math import gcd
 
-from toothchain.base.integers import Long, integer_of, integer_text, is_any_integer, is_short_integer
+from toothchain.base.integers import integer_text, is_any_integer, is_short_integer
 from toothchain.errors import InvalidNumber, InvalidRatio, ZeroDivisor
 
 _MAX_EXPONENT = 40
+
+
+class LowestTerms:
+    """A numerator and a denominator that the package itself computed, in lowest terms and of any length.
+
+    The package passes them where two integers of at most sixty digits may be passed only.
+    """
+
+    def __init__(self, above, below):
+        self.above = above
+        self.below = below
 
 
 class Ratio:
     """A fraction of two integers in lowest terms with a positive denominator; it never changes."""
 
     def __init__(self, top, bottom=1):
-        self._top, self._bottom = _lowest_terms(integer_of(top), integer_of(bottom))
+        terms = top if isinstance(top, LowestTerms) else _checked_terms(top, bottom)
+        self._top = terms.above
+        self._bottom = terms.below
 
     @property
     def top(self):
@@ -32,7 +45,7 @@ class Ratio:
     @property
     def part(self):
         """The ratio less its floor."""
-        return ratio_of(self._top % self._bottom, self._bottom)
+        return Ratio(LowestTerms(self._top % self._bottom, self._bottom))
 
     @property
     def is_whole(self):
@@ -61,21 +74,21 @@ class Ratio:
         return self * other
 
     def __neg__(self):
-        return ratio_of(-self._top, self._bottom)
+        return Ratio(LowestTerms(-self._top, self._bottom))
 
     def __abs__(self):
-        return ratio_of(abs(self._top), self._bottom)
+        return Ratio(LowestTerms(abs(self._top), self._bottom))
 
     def __bool__(self):
         return bool(self._top)
 
     def __eq__(self, other):
         if isinstance(other, Ratio):
-            return self._top == other.top and self._bottom == other.bottom
+            return self._top == other._top and self._bottom == other._bottom
         return is_any_integer(other) and self._bottom == 1 and self._top == other
 
     def __str__(self):
-        return str(_fraction_text(self._top, self._bottom))
+        return str(fraction_text(self._top, self._bottom))
 
     def compare(self, other):
         """-1, 0 or 1 if the ratio is less than the other number, equal to it, or greater."""
@@ -97,7 +110,7 @@ class Ratio:
         top, bottom = 1, 1
         for _ in range(exponent):
             top, bottom = top * self._top, bottom * self._bottom
-        return ratio_of(top, bottom)
+        return Ratio(LowestTerms(top, bottom))
 
 
 def total(numbers):
@@ -112,28 +125,35 @@ def total(numbers):
 
 def ratio_of(top, bottom):
     """The ratio of two integers of any length that the package itself computed."""
-    return Ratio(Long(top), Long(bottom))
+    return Ratio(_lowest_terms(top, bottom))
 
 
 def terms_of(number):
     """The numerator and the denominator of a number, or an error if it is none."""
     if isinstance(number, Ratio):
-        return number.top, number.bottom
+        return number._top, number._bottom
     if is_short_integer(number):
         return number, 1
     raise InvalidRatio("this is no number")
 
 
-def _lowest_terms(top, bottom):
-    if top is None or bottom is None:
-        raise InvalidRatio("a ratio has two integers of at most sixty digits")
-    if bottom == 0:
-        raise ZeroDivisor("no ratio has the denominator 0")
-    common = gcd(top, bottom) if bottom > 0 else -gcd(top, bottom)
-    return top // common, bottom // common
-
-
-def _fraction_text(top, bottom):
+def fraction_text(top, bottom):
+    """The text of a fraction in lowest terms."""
     if bottom == 1:
         return integer_text(top)
     return f"{integer_text(top)}/{integer_text(bottom)}"
+
+
+def _checked_terms(top, bottom):
+    if not is_short_integer(top) or not is_short_integer(bottom):
+        raise InvalidRatio("a ratio has two integers of at most sixty digits")
+    return _lowest_terms(top, bottom)
+
+
+def _lowest_terms(top, bottom):
+    common = gcd(top, bottom)
+    if bottom < 0:
+        return LowestTerms(-top // common, -bottom // common)
+    if bottom == 0:
+        raise ZeroDivisor("no ratio has the denominator 0")
+    return LowestTerms(top // common, bottom // common)

@@ -2,8 +2,8 @@
 
 from math import gcd
 
-from toothchain.base.integers import Long, checked_from, checked_integer
-from toothchain.base.ladders import Ladder
+from toothchain.base.integers import checked_from, checked_integer
+from toothchain.base.ladders import inverse_or_none
 from toothchain.base.ratios import ratio_of
 from toothchain.errors import TooMany
 
@@ -13,7 +13,7 @@ _MAX_ROW = 2000
 def line_sum(n, a, c, m):
     """The total of the floors of (a i + c)/m for i = 0, 1, .. , n - 1."""
     many, slope, start, bottom = _checked_line(n, a, c, m)
-    return _floor_totals(many, slope, start, bottom)[0]
+    return floor_total(many, slope, start, bottom)
 
 
 def line_moment(n, a, c, m):
@@ -66,6 +66,21 @@ def tooth_line(n, a, c, m):
     return ratio_of(2 * _rest_total(many, slope, start, bottom) - broken * bottom, 2 * bottom)
 
 
+def floor_total(n, a, c, m):
+    """The total of the floors, for integers of any length."""
+    result = 0
+    while True:
+        up, a = divmod(a, m)
+        start, c = divmod(c, m)
+        result = result + up * (n * (n - 1) // 2) + start * n
+        # Below a line between 0 and its end there are as many points along one axis
+        # as along the other one; this leads to ever shorter lines.
+        n, c = divmod(a * n + c, m)
+        if n == 0:
+            return result
+        a, m = m, a
+
+
 def _checked_line(n, a, c, m):
     return checked_from(0, n), checked_integer(a), checked_integer(c), checked_from(1, m)
 
@@ -75,13 +90,13 @@ def _whole_steps(n, a, c, m):
     if c % common:
         return 0
     every = m // common
-    first = -(c // common) * Ladder(Long(a // common), Long(every)).coprime_inverse % every
+    first = -(c // common) * inverse_or_none(a // common, every) % every
     return (n - 1 - first) // every + 1
 
 
 def _rest_total(n, a, c, m):
     ones, indices, _ = _powers(n)
-    return a * indices + c * ones - m * _floor_totals(n, a, c, m)[0]
+    return a * indices + c * ones - m * floor_total(n, a, c, m)
 
 
 def _powers(n):

@@ -3,9 +3,9 @@
 from math import gcd
 
 from toothchain.base.integers import checked_from, checked_integer, checked_pair
-from toothchain.base.ratios import terms_of
+from toothchain.base.ratios import ratio_of, terms_of
 from toothchain.errors import InvalidOperation, TooMany
-from toothchain.sums.teeth import sum_of
+from toothchain.sums.teeth import sum_top
 
 MAX_CLASSES = 300
 
@@ -13,7 +13,7 @@ MAX_CLASSES = 300
 def twelfths(a, b):
     """Twelve times the sum of a pair."""
     first, second = checked_pair(a, b)
-    return sum_of(first, second) * 12
+    return ratio_of(sum_top(first, second), second)
 
 
 def is_zero_sum(a, b):
@@ -37,31 +37,42 @@ def have_like_rests(a, c, b):
 def have_equal_sums(a, c, b):
     """Whether both sums are equal."""
     first, second, bottom = _checked_likes(a, c, b)
-    return sum_of(first, bottom) == sum_of(second, bottom)
+    difference, product = (first - second) % bottom, (first * second - 1) % bottom
+    if difference == 0 or product == 0:
+        return True
+    # Equal sums have like rests [5.2], and these are known sooner than a sum.
+    return difference * product % bottom == 0 and sum_top(first, bottom) == sum_top(second, bottom)
 
 
 def sum_classes(b):
     """The integers below b that are coprime to it, grouped by equal sums."""
-    return _classes_of(_coprime_sums(_checked_limit(b)))
+    return _classes_of(_coprime_tops(_checked_limit(b)))
 
 
 def rest_classes(b):
     """The integers below b that are coprime to it, grouped by sums whose twelvefold differs by an integer."""
-    sums = _coprime_sums(_checked_limit(b))
-    return _classes_of({a: (one * 12).part for a, one in sums.items()})
+    bottom = _checked_limit(b)
+    return _classes_of({a: top % bottom for a, top in _coprime_tops(bottom).items()})
 
 
 def who_has(b, wish):
     """The integers below b that are coprime to it and have this sum."""
-    sums = _coprime_sums(_checked_limit_beside(b, wish))
-    return tuple([a for a, one in sums.items() if one == wish])
+    bottom, wish_top, wish_bottom = _checked_wish(b, wish)
+    wanted, rest = divmod(12 * bottom * wish_top, wish_bottom)
+    if rest != 0:
+        return ()
+    # By [0.11] what is wanted leaves the same remainder as a and its inverse together.
+    shift = wanted % bottom
+    likely = [a for a in range(bottom) if (a * (shift - a) - 1) % bottom == 0]
+    return tuple([a for a in likely if sum_top(a, bottom) == wanted])
 
 
 def nearest(b, wish):
     """The integers below b that are coprime to it and whose sums are nearest to the number."""
-    sums = _coprime_sums(_checked_limit_beside(b, wish))
-    distances = {a: abs(one - wish) for a, one in sums.items()}
-    least = _least_of(list(distances.values()))
+    bottom, wish_top, wish_bottom = _checked_wish(b, wish)
+    wanted = 12 * bottom * wish_top
+    distances = {a: abs(top * wish_bottom - wanted) for a, top in _coprime_tops(bottom).items()}
+    least = min(list(distances.values()))
     return tuple([a for a, distance in distances.items() if distance == least])
 
 
@@ -92,29 +103,29 @@ def _checked_limit(b):
     return bottom
 
 
-def _checked_limit_beside(b, wish):
-    # Both arguments have the right form before the limit counts.
+def _checked_wish(b, wish):
+    """The integer b and the terms of the wish, both of which have the right form before the limit counts."""
     checked_from(1, b)
-    terms_of(wish)
-    return _checked_limit(b)
+    top, bottom = terms_of(wish)
+    return _checked_limit(b), top, bottom
 
 
-def _coprime_sums(b):
-    """The sums of the integers below b that are coprime to it, under these integers."""
-    return {a: sum_of(a, b) for a in range(b) if gcd(a, b) == 1}
+def _coprime_tops(b):
+    """12 b s(a, b), an integer, for each a below b that is coprime to it, under these integers."""
+    known = {}
+    for a in range(b):
+        if a not in known and gcd(a, b) == 1:
+            top = sum_top(a, b)
+            # By [0.11]; the sum is the same for the inverse, and the opposite for the opposites.
+            inverse = (top - a) % b
+            known[a] = known[inverse] = top
+            known[-a % b] = known[-inverse % b] = -top
+    return {a: known[a] for a in range(b) if a in known}
 
 
-def _classes_of(ratios):
-    """The integers, grouped by the equal ratios under them."""
+def _classes_of(keys):
+    """The integers, grouped by the equal keys under them."""
     classes = {}
-    for a, one in ratios.items():
-        classes.setdefault((one.top, one.bottom), []).append(a)
+    for a, key in keys.items():
+        classes.setdefault(key, []).append(a)
     return tuple(sorted([tuple(members) for members in classes.values()]))
-
-
-def _least_of(ratios):
-    least = ratios[0]
-    for one in ratios:
-        if one.compare(least) < 0:
-            least = one
-    return least

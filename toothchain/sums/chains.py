@@ -2,8 +2,8 @@
 
 from math import gcd
 
-from toothchain.base.integers import Long, checked_pair, integer_text, is_inner_integer, is_short_integer
-from toothchain.base.ladders import Ladder
+from toothchain.base.integers import checked_pair, integer_text, is_inner_integer, is_short_integer
+from toothchain.base.ladders import inverse_or_none
 from toothchain.errors import InvalidNumber, InvalidOperation, NothingToUndo, TooMany
 from toothchain.sums.teeth import sum_of
 
@@ -74,14 +74,14 @@ class Walk:
     def invert(self):
         """Replace the first integer by its inverse."""
         p, q = self._pairs[-1]
-        inverse = Ladder(Long(p), Long(q)).coprime_inverse
+        inverse = inverse_or_none(p, q)
         if inverse is None:
             raise InvalidOperation("only coprime integers have an inverse")
         return self._checked_step("invert", (inverse, q))
 
     def reduce(self):
         """Divide both integers by their greatest common factor."""
-        return self._checked_step("reduce", _lowest_pair(self._pairs[-1]))
+        return self._checked_step("reduce", lowest_pair(self._pairs[-1]))
 
     def exchange(self):
         """Exchange both integers."""
@@ -95,7 +95,7 @@ class Walk:
         before = len(self._steps)
         p, q = self._pairs[-1]
         if p != 0 and gcd(p, q) != 1:
-            p, q = self._step("reduce", _lowest_pair((p, q)))
+            p, q = self._step("reduce", lowest_pair((p, q)))
         # Shifts and exchanges leave a coprime pair coprime.
         while p != 0:
             if 0 < p < q:
@@ -162,7 +162,7 @@ def chain_certificate(a, b):
 def is_chain_certificate(a, b, value):
     """Whether the value is a chain for the pair."""
     pair = checked_pair(a, b)
-    if not _are_rows(value) or value[0][:2] != pair or value[-1][0] != 0 or value[-1][2] != 0:
+    if not is_chain_form(value, pair):
         return False
     for before, after in zip(value, value[1:]):
         if not _follows(before, after):
@@ -170,7 +170,37 @@ def is_chain_certificate(a, b, value):
     return True
 
 
-def _lowest_pair(pair):
+def are_rows(value):
+    """Whether the value is a tuple of as many rows of four integers as a chain may have."""
+    if not isinstance(value, tuple) or not 1 <= len(value) <= MAX_ROWS:
+        return False
+    return all([_is_row(row) for row in value])
+
+
+def is_chain_form(value, pair):
+    """Whether the value has rows as a chain, the first one and the last one of which are right."""
+    if not are_rows(value) or not all([row[1] >= 1 and row[3] >= 1 for row in value]):
+        return False
+    return value[0][:2] == pair and value[-1][0] == 0 and value[-1][2] == 0
+
+
+def is_shifted_or_reduced(before, after):
+    """Whether shift or reduce leads from the first row to the second one."""
+    p, q, top, bottom = before
+    u, v, new_top, new_bottom = after
+    if top * new_bottom != new_top * bottom:
+        return False
+    return (u - p) % q == 0 if v == q else q % v == 0 and p == q // v * u
+
+
+def is_negated(before, after):
+    """Whether negate leads from the first row to the second one."""
+    p, q, top, bottom = before
+    u, v, new_top, new_bottom = after
+    return u == -p and v == q and top * new_bottom == -new_top * bottom
+
+
+def lowest_pair(pair):
     p, q = pair
     common = gcd(p, q)
     return p // common, q // common
@@ -218,38 +248,23 @@ def _exchange_top(p, q):
     return p * p + q * q + 1 - 3 * p * q
 
 
-def _are_rows(value):
-    if not isinstance(value, tuple) or not 1 <= len(value) <= MAX_ROWS:
-        return False
-    return all([_is_row(row) for row in value])
-
-
 def _is_row(value):
     if not isinstance(value, tuple) or len(value) != 4:
         return False
-    return all([is_inner_integer(one) for one in value]) and value[1] >= 1 and value[3] >= 1
+    return all([is_inner_integer(one) for one in value])
 
 
 def _follows(before, after):
     """Whether the second row follows from the first one by some rule."""
-    return _is_equal_step(before, after) or _is_negated(before, after) or _is_exchanged(before, after)
+    if is_shifted_or_reduced(before, after) or is_negated(before, after):
+        return True
+    return _is_inverted(before, after) or _is_exchanged(before, after)
 
 
-def _is_equal_step(before, after):
-    """Whether a rule leads there that leaves the value as it is."""
+def _is_inverted(before, after):
     p, q, top, bottom = before
     u, v, new_top, new_bottom = after
-    if top * new_bottom != new_top * bottom:
-        return False
-    if v == q:
-        return (u - p) % q == 0 or (u * p - 1) % q == 0
-    return q % v == 0 and p == q // v * u
-
-
-def _is_negated(before, after):
-    p, q, top, bottom = before
-    u, v, new_top, new_bottom = after
-    return u == -p and v == q and top * new_bottom == -new_top * bottom
+    return v == q and (u * p - 1) % q == 0 and top * new_bottom == new_top * bottom
 
 
 def _is_exchanged(before, after):

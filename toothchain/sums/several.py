@@ -1,12 +1,10 @@
 """Sums for several numbers at once: three terms, divided numbers, rows of sums."""
 
-from math import gcd
-
 from toothchain.base.integers import checked_from, checked_integer, checked_pair
-from toothchain.base.ladders import inverse_of
+from toothchain.base.ladders import check_coprime, inverse_or_none
 from toothchain.base.ratios import ratio_of
-from toothchain.errors import InvalidNumber, InvalidOperation, TooMany
-from toothchain.sums.teeth import sum_of
+from toothchain.errors import InvalidNumber, TooMany
+from toothchain.sums.teeth import sum_of, sum_top
 
 MAX_DIVIDED = 60
 
@@ -17,9 +15,9 @@ def three_terms(a, b, c):
     """Three sums, one for each of three integers of which any two are coprime."""
     one, two, three = _checked_three(a, b, c)
     return (
-        sum_of(two * inverse_of(three, one), one),
-        sum_of(three * inverse_of(one, two), two),
-        sum_of(one * inverse_of(two, three), three),
+        sum_of(two * inverse_or_none(three, one), one),
+        sum_of(three * inverse_or_none(one, two), two),
+        sum_of(one * inverse_or_none(two, three), three),
     )
 
 
@@ -66,16 +64,14 @@ def row_total(b, shift=0):
     bottom, distance = checked_from(1, b), checked_integer(shift)
     if bottom > _MAX_ROW:
         raise TooMany(_MAX_ROW)
-    # 12 b s(a, b) is an integer, whether a and b are coprime or not.
-    tops = [(sum_of(a, bottom) * (12 * bottom)).top for a in range(bottom)]
+    tops = [sum_top(a, bottom) for a in range(bottom)]
     products = [tops[a] * tops[(a + distance) % bottom] for a in range(bottom)]
     return ratio_of(sum(products), 144 * bottom * bottom)
 
 
 def _checked_three(a, b, c):
     one, two, three = checked_from(1, a), checked_from(1, b), checked_from(1, c)
-    if gcd(one, two) != 1 or gcd(two, three) != 1 or gcd(three, one) != 1:
-        raise InvalidOperation("any two of the three integers have to be coprime")
+    check_coprime(one, two, three)
     return one, two, three
 
 

@@ -1,13 +1,13 @@
 """Saw teeth, bends and the sums of products of teeth."""
 
-from math import gcd
-
-from toothchain.base.integers import Long, checked_from, checked_pair
-from toothchain.base.ladders import Ladder
+from toothchain.base.integers import checked_from, checked_pair
 from toothchain.base.ratios import ratio_of, terms_of
 from toothchain.errors import InvalidOperation, TooMany
 
 MAX_PLAIN = 2000
+
+# Python calculates quickly with integers below this one.
+_SHORT = 2 ** 30
 
 
 def tooth(number):
@@ -45,18 +45,25 @@ def greatest_sum(b):
 def ladder_sum(a, b):
     """Three parts that add up to twelve times the sum of a coprime pair."""
     first, second = checked_pair(a, b)
-    if gcd(first, second) != 1:
+    rest = first % second
+    alternating, factor, common, turn = _steps(second, rest)
+    if common != 1:
         raise InvalidOperation("only the sum of coprime integers has these parts")
-    alternating, top, turn = _parts_of(first, second)
-    return alternating, ratio_of(top, second), turn
+    return alternating, ratio_of(rest + factor, second), turn
 
 
 def sum_of(a, b):
     """The sum s(a, b) of a pair of integers of any length."""
-    common = gcd(a, b)
-    bottom = b // common
-    alternating, top, turn = _parts_of(a // common, bottom)
-    return ratio_of((alternating + turn) * bottom + top, 12 * bottom)
+    return ratio_of(sum_top(a, b), 12 * b)
+
+
+def sum_top(a, b):
+    """12 b s(a, b), an integer for each pair, of integers of any length."""
+    rest = a % b
+    if rest >= _SHORT:
+        return _long_sum_top(b, rest)
+    alternating, factor, common, turn = _steps(b, rest)
+    return (alternating + turn) * b + rest + factor * common
 
 
 def tooth_top(top, bottom):
@@ -75,14 +82,41 @@ def _product(one, other, bottom):
     return ratio_of(tooth_top(one, bottom) * tooth_top(other, bottom), 4 * bottom * bottom)
 
 
-def _parts_of(a, b):
-    """The parts of [0.10] for a coprime pair, the middle one times b."""
-    rest = a % b
-    if rest == 0:
-        return 0, 0, 0
-    ladder = Ladder(Long(rest), Long(b))
-    inverse = ladder.coprime_inverse
-    # By [2.1] the denominator r of [0.10] is the inverse or its opposite, in turn.
-    if len(ladder) % 2 == 0:
-        return ladder.alternating, rest + inverse, -3
-    return ladder.alternating, rest + inverse - b, 0
+def _steps(upper, lower):
+    """Euclid's algorithm, as far as [0.10] needs it for lower/upper.
+
+    It gives the alternating sum of the quotients, r or -r, the greatest common factor,
+    and what is added at last. This factor is `lower` times r or -r, less a multiple of `upper`.
+    """
+    alternating, before, last = 0, 0, 1
+    # Two steps at once, because the quotients change their signs in turn.
+    while lower:
+        quotient = upper // lower
+        upper = upper % lower
+        alternating = alternating + quotient
+        if upper == 0:
+            return alternating, last, lower, -3
+        before = before + quotient * last
+        quotient = lower // upper
+        lower = lower % upper
+        alternating = alternating - quotient
+        last = last + quotient * before
+    return alternating, -before, upper, 0
+
+
+def _long_sum_top(b, rest):
+    """What `sum_top` gives for the pair (rest, b), faster for long integers."""
+    # The upper digits of both integers are remainders. The lower ones are what `rest`
+    # is multiplied by to get them, up to a multiple of b: so one division does for both.
+    bits = b.bit_length() + 2
+    upper, lower = b << bits, (rest << bits) + 1
+    alternating = 0
+    end = _SHORT << bits
+    while lower > end:
+        up, upper = divmod(upper, lower)
+        down, lower = divmod(lower, upper)
+        alternating = alternating + up - down
+    one, other = -(-upper >> bits), lower >> bits
+    more, factor, common, turn = _steps(one, other)
+    last = (common - factor * other) // one * upper + factor * lower - (common << bits)
+    return (alternating + more + turn) * b + rest + last * common
