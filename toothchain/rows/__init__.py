@@ -1,0 +1,1 @@
+"""Rows that mix the integers below a modulus."""
