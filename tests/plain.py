@@ -110,3 +110,39 @@ def shifted_rows_up_to(quotients, u, v):
         p, q, u, v = q, p, v, u
         rows.append((p, q, u, v, value))
     return rows
+
+
+NUMBERS = [Fraction(1)]
+
+
+def plain_bernoulli(n):
+    while len(NUMBERS) <= n:
+        m = len(NUMBERS)
+        NUMBERS.append(-sum(math.comb(m + 1, k) * NUMBERS[k] for k in range(m)) / (m + 1))
+    return NUMBERS[n]
+
+
+def plain_polynomial(n, x):
+    return sum(math.comb(n, k) * plain_bernoulli(k) * Fraction(x) ** (n - k) for k in range(n + 1))
+
+
+def higher_exchange_value(p, a, b):
+    """What [13.4] says, word for word."""
+    return p * plain_bernoulli(p + 1) + sum(
+        math.comb(p + 1, k) * (-1) ** k * plain_bernoulli(k) * a ** k * plain_bernoulli(p + 1 - k) * b ** (p + 1 - k)
+        for k in range(p + 2)
+    )
+
+
+def higher_value(p, a, b):
+    """The higher sum by the rules of [13.3] and [13.4] alone, for integers of every length."""
+    common = math.gcd(a, b)
+    a, b = a // common, b // common
+    pairs = []
+    while a := a % b:
+        pairs.append((a, b))
+        a, b = b, a
+    value = Fraction(0)
+    for one, other in reversed(pairs):
+        value = (higher_exchange_value(p, one, other) / (p + 1) - other * one ** p * value) / (one * other ** p)
+    return value

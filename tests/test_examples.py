@@ -4,8 +4,11 @@ import doctest
 import unittest
 
 from toothchain.base import ladders, ratios
-from toothchain.counts import lines
-from toothchain.sums import alike, chains, several, shifts, teeth
+from toothchain.bench import bench
+from toothchain.counts import lines, points, steps
+from toothchain.rows import mixing
+from toothchain.sums import alike, chains, higher, several, shifts, teeth
+from toothchain.text import shell, texts
 from toothchain.turns import turns
 
 RATIOS = """
@@ -79,10 +82,51 @@ LINES = """
 [2, 2, 20, '0', '-1/4', 178]
 """
 
+POINTS = """
+>>> [triangle_points(2, 3, 6), triangle_inner(2, 3, 12), triangle_points(2, 3, -1), triangle_row(2, 3, 6), corner_points(1, 2, 3, 1), corner_points(2, 3, 5, 1), corner_points(2, 3, 5, 0)]
+[7, 7, 0, (4, 2, 1), 8, 18, 1]
+>>> [corner_inner(2, 3, 5, 2), corner_face(2, 3, 5, 2), [str(one) for one in corner_polynomial(1, 1, 1)], [str(one) for one in corner_polynomial(2, 3, 5)], corner_layers(1, 2, 3, 1)]
+[15, 6, ['1', '11/6', '1', '1/6'], ['1', '4', '8', '5'], (4, 2, 1, 1)]
+"""
+
+STEPS = """
+>>> [reaches(3, 5, 7), reaches(3, 5, 8), reaches(3, 5, -3), ways(3, 5, 15), all_ways(3, 5, 15), ways(3, 5, 7), ways(1, 1, 4)]
+[False, True, False, 2, ((0, 3), (5, 0)), 0, 5]
+>>> [gap_count(3, 5), gap_total(3, 5), last_gap(3, 5), all_gaps(3, 5), gaps_below(3, 5, 5), gap_at(3, 5, 2), all_gaps(1, 9), gaps_below(3, 5, -4)]
+[4, 14, 7, (1, 2, 4, 7), 3, 4, (), 0]
+"""
+
+MIXING = """
+>>> row = MixingRow(5, 3, 8)
+>>> [row.after(2), row.before(5), row.cycle(0), row.is_full, str(row.pair_total()), str(row.correlation()), row.repeated(-1) == row.inverse(), str(row.then(row))]
+[5, 2, (0, 3, 2, 5, 4, 7, 6, 1), True, '1/4', '1/3', True, 'x -> 1 x + 2 mod 8']
+>>> [flattest(5), flattest(8), least_square(5, 8), is_least_vector(5, 8, (2, -2)), is_least_vector(5, 8, (3, 1)), least_square(0, 1), MixingRow(-3, 10, 7).multiplier]
+[(4,), (5,), 8, True, False, 1, 4]
+"""
+
+HIGHER = """
+>>> [str(bernoulli(1)), str(bernoulli(4)), str(bernoulli_value(3, Ratio(1, 3))), str(higher_tooth(3, Ratio(7, 3))), str(higher_tooth(1, 5)), str(power_total(3, 5))]
+['-1/2', '-1/30', '1/27', '1/27', '0', '100']
+>>> [str(higher_sum(3, 1, 3)), str(higher_sum(3, 2, 5)), str(higher_sum(1, 1, 3)), str(higher_exchange(3, 1, 3)), is_higher_certificate(3, 1, 3, ((1, 3, -1, 81), (3, 1, 0, 1), (0, 1, 0, 1)))]
+['-1/81', '-3/625', '1/18', '-4/3', True]
+"""
+
+BENCHES = """
+>>> bench = Bench()
+>>> [[str(new) for name, old, new in bench.enter("one", 1, 3)], len(bench.enter("two", 2, 3)), bench.pin(("least", "one", Ratio(1, 18))), bench.shift_pair("two", 5), bench["two"], str(bench)]
+[['1/18'], 1, (), (), (17, 3), 'bench of 2 pairs, 1 pins']
+>>> [write_number(Ratio(-3, 4)), read_chain("1 3 1 18; 3 1 0 1; 0 1 0 1"), read_turn("3 2; 1 1") == word_turn("UUV"), str(read_number("5/7")), write_number(5)]
+['-3/4', ((1, 3, 1, 18), (3, 1, 0, 1), (0, 1, 0, 1)), True, '5/7', '5']
+>>> shell = Shell()
+>>> [shell("enter a 5 12"), shell("invert a"), shell("pin zero a"), shell("sums"), shell("phi UUV"), shell("ladder a"), shell("exchange a"), shell("sum nobody"), len(shell)]
+['a - -1/72', 'none', 'refused zero a', 'a:-1/72', '4', '5/12: 0 2 2 2', 'a -1/72 0', 'unknown nobody', 6]
+"""
+
 MODULES = {
     "ratios": (ratios, RATIOS), "ladders": (ladders, LADDERS), "teeth": (teeth, TEETH), "chains": (chains, CHAINS),
     "alike": (alike, ALIKE), "several": (several, SEVERAL), "turns": (turns, TURNS), "shifts": (shifts, SHIFTS),
-    "lines": (lines, LINES),
+    "lines": (lines, LINES), "points": (points, POINTS), "steps": (steps, STEPS), "mixing": (mixing, MIXING),
+    "higher": (higher, HIGHER), "benches": (shell, BENCHES),
 }
 
 
@@ -90,7 +134,8 @@ def document_tests():
     """One doctest for each heading; its names are those of the interface, from their modules."""
     parser = doctest.DocTestParser()
     for name, (module, text) in MODULES.items():
-        yield parser.get_doctest(text, {"Ratio": ratios.Ratio, **vars(module)}, name, None, 0)
+        names = {"Ratio": ratios.Ratio, **vars(turns), **vars(bench), **vars(texts), **vars(module)}
+        yield parser.get_doctest(text, names, name, None, 0)
 
 
 class ExampleTests(unittest.TestCase):

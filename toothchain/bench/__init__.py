@@ -1,0 +1,1 @@
+"""Benches, which hold named pairs and what is promised of their sums."""
