@@ -13,7 +13,7 @@ from toothchain.errors import (
 )
 
 NAMES = ["a", "z", "one", "abcdefgh", "eightlet"]
-NO_NAMES = ["", "A", "aB", "a1", "a b", " a", "a ", "abcdefghi", "x" * 2000, "a-b", "a\n", "_", "1", *(
+NO_NAMES = ["\u00e9", "\u00df", "na\u00efve", "\u03b1", "", "A", "aB", "a1", "a b", " a", "a ", "abcdefghi", "x" * 2000, "a-b", "a\n", "_", "1", *(
     value for value in not_integers() if value != "a")]
 LETTERS = "abcdefgh"
 
@@ -289,6 +289,16 @@ class PinTests(Benches):
         self.assertEqual(bench.pin(("most", "b", Ratio(SIXTY).power(2))), ())
         self.assertEqual(bench.pin(("least", "b", -SIXTY)), ())
 
+    def test_true_is_no_number_of_a_pin(self):
+        bench = made((0, 5))
+        pins = [("least", "a", 0), ("most", "a", 1)]
+        for pin in pins:
+            bench.pin(pin)
+        for value in [("least", "a", False), ("most", "a", True)]:
+            self.assert_no_effect(InvalidOperation, bench, bench.unpin, value)
+            self.assert_no_effect(InvalidOperation, bench, bench.pin, value)
+        self.assertEqual(bench.pins, tuple(pins))
+
     def test_pins_that_are_there_or_not(self):
         bench = made((0, 1))
         self.assert_no_effect(InvalidOperation, bench, bench.unpin, ("zero", "a"))
@@ -339,6 +349,16 @@ class PinnedTests(Benches):
         bench.remove("d")
         # Pins about names that have gone are none.
         self.assert_no_effect(InvalidOperation, bench, bench.pin, ("zero", "b"))
+
+    def test_each_name_of_a_pin_is_needed(self):
+        for pin in [("zero", "a"), ("least", "a", -1), ("most", "a", 1), ("equal", "a", "b"), ("equal", "b", "a"), ("like", "a", "b"),
+                    ("like", "b", "a")]:
+            bench = made((0, 5), (0, 3), (0, 1))
+            bench.pin(pin)
+            for name in "abc":
+                if name in pin:
+                    self.assert_no_effect(InvalidOperation, bench, bench.remove, name)
+            self.assert_news(bench.remove("c"), ("c", (0, 1), None))
 
     def test_order_of_errors_behind_then(self):
         bench = made((SIXTY, 1), *[(0, 3)] * 7)

@@ -227,7 +227,8 @@ class CornerTests(unittest.TestCase, Refusals):
 
     def test_wrong_boxes_of_polynomials(self):
         for value in [0, -1, -SIXTY, SIXTY_ONE, *not_integers()]:
-            self.assert_no_number(value, corner_polynomial, value, 0, "c")
+            self.assert_no_number(value, corner_polynomial, value, 3, 5)
+            self.assert_no_number(value, corner_polynomial, value, "b", 0)
             self.assert_no_number(value, corner_polynomial, 2, value, "c")
             self.assert_no_number(value, corner_polynomial, 2, 4, value)
 

@@ -13,7 +13,7 @@ EIGHT_HUNDRED = 10 ** 800 - 1
 NUMBERS = [Ratio(0), Ratio(5), Ratio(-5), Ratio(-3, 4), Ratio(10, 3), Ratio(1, SIXTY), Ratio(SIXTY), Ratio(SIXTY, SIXTY - 1),
            Ratio(-SIXTY, 7).power(40), Ratio(3, SIXTY).power(33), Ratio(10).power(40)]
 INTEGERS = [0, 1, -1, 9, 10, -100, 12345678901234567890, SIXTY, -SIXTY, SIXTY_ONE, EIGHT_HUNDRED, -10 ** 900]
-NO_INTEGERS = ["", "-", "+1", "00", "01", "-0", "-01", "--1", "1-", " 1", "1 ", "1\n", "\n", "a", "1a", "0x1", "1_000", "1.0", "1e3",
+NO_INTEGERS = ["\u0663", "1\u0663", "\u00b2", "", "-", "+1", "00", "01", "-0", "-01", "--1", "1-", " 1", "1 ", "1\n", "\n", "a", "1a", "0x1", "1_000", "1.0", "1e3",
                "True", "None", "(1)", "1,2", "1;", ";", ";1", "- 1", "0-1", "-00", "000000", "1" + "0" * 70 + "x"]
 
 

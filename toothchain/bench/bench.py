@@ -3,9 +3,7 @@
 from toothchain.base.integers import checked_from, checked_integer, checked_pair, is_short_integer
 from toothchain.base.ladders import inverse_or_none
 from toothchain.base.ratios import Ratio
-from toothchain.errors import (
-    InvalidName, InvalidNumber, InvalidOperation, NothingToUndo, Refused, TooMany, UnknownName,
-)
+from toothchain.errors import InvalidName, InvalidNumber, InvalidOperation, NothingToUndo, Refused, TooMany, UnknownName
 from toothchain.sums.chains import lowest_pair
 from toothchain.sums.teeth import sum_of
 
@@ -208,9 +206,7 @@ def made_change(bench, change):
 
 def _is_pin(value, pairs):
     """Whether the value is a pin about names that are there."""
-    if not isinstance(value, tuple) or not 2 <= len(value) <= 3:
-        return False
-    if not isinstance(value[0], str) or not _is_there(value[1], pairs):
+    if not isinstance(value, tuple) or not 2 <= len(value) <= 3 or not _is_there(value[1], pairs):
         return False
     if len(value) == 2:
         return value[0] == "zero"

@@ -25,8 +25,7 @@ def triangle_inner(a, b, limit):
 def triangle_row(a, b, limit):
     """How many points the triangle has for y = 0, 1, .. , as long as b y <= limit."""
     first, second, most = _checked_triangle(a, b, limit)
-    if most < 0:
-        return ()
+    # No row is there, and nothing is counted, for a limit below 0.
     entries = most // second + 1
     if entries > MAX_LAYERS:
         raise TooMany(MAX_LAYERS)

@@ -3,9 +3,7 @@
 from toothchain.base.integers import integer_from, is_short_integer
 from toothchain.base.ladders import Ladder
 from toothchain.bench.bench import Bench, is_name, made_change
-from toothchain.errors import (
-    InvalidNumber, InvalidOperation, NothingToUndo, ParseError, Refused, TooMany, UnknownName,
-)
+from toothchain.errors import InvalidNumber, InvalidOperation, NothingToUndo, ParseError, Refused, TooMany, UnknownName
 from toothchain.sums.chains import chain_certificate
 from toothchain.text.texts import read_number, write_chain, write_number
 from toothchain.turns.turns import is_word, word_turn
