@@ -7,9 +7,11 @@ from toothchain.base.ratios import Ratio
 
 
 def exact(number):
-    """The fraction that is equal to a number of the package."""
+    """The fraction that is equal to a number of the package, whose ratios show their lowest terms."""
     if isinstance(number, Ratio):
-        return Fraction(number.top, number.bottom)
+        fraction = Fraction(number.top, number.bottom)
+        assert (fraction.numerator, fraction.denominator) == (number.top, number.bottom), str(number)
+        return fraction
     return Fraction(number)
 
 

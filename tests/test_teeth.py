@@ -10,6 +10,8 @@ from tests.samples import (
 )
 from toothchain.base.ratios import Ratio, total
 from toothchain.errors import InvalidRatio
+from toothchain.sums.alike import twelfths
+from toothchain.sums.shifts import is_shifted_certificate, shifted_certificate, shifted_sum
 from toothchain.sums.teeth import MAX_PLAIN, bend, greatest_sum, ladder_sum, tooth, tooth_row, tooth_sum
 
 FRACTIONS = [Fraction(top, bottom) for top in range(-25, 26) for bottom in range(1, 9)]
@@ -106,6 +108,64 @@ class SumTests(unittest.TestCase, Refusals):
         self.assert_pair_is_checked(tooth_sum)
         self.assert_no_number(SIXTY_ONE, tooth_sum, SIXTY_ONE, 1)
         self.assert_no_number(SIXTY_ONE, tooth_sum, 1, SIXTY_ONE)
+
+
+class SumsAsRatiosTests(unittest.TestCase):
+    """The lowest terms of sums are worked out when they are asked for; in all else sums are ratios as others."""
+
+    PAIRS = [(1, 3), (5, 12), (2, 5), (10, 24), (0, 7), (-7, 30), (13, 14), (1, 300), (-1, 60), *LARGE]
+
+    def sums(self):
+        for a, b in self.PAIRS:
+            value = exchanged_sum(a, b)
+            yield tooth_sum(a, b), value, ratio(value)
+            yield twelfths(a, b), 12 * value, ratio(12 * value)
+
+    def test_properties(self):
+        for one, value, plain in self.sums():
+            self.assertEqual((one.top, one.bottom, str(one)), (value.numerator, value.denominator, str(value)))
+            self.assertEqual((one.floor, one.is_whole, bool(one)), (math.floor(value), value.denominator == 1, value != 0))
+            self.assertEqual((exact(one.part), type(one.part)), (value - math.floor(value), Ratio))
+            self.assertEqual((one.part.is_whole, str(one.part)), (value.denominator == 1, str(value % 1)))
+
+    def test_calculations(self):
+        for one, value, plain in self.sums():
+            self.assertEqual((exact(-one), exact(abs(one))), (-value, abs(value)))
+            for exponent in (0, 1, 2, 5):
+                self.assertEqual(exact(one.power(exponent)), value ** exponent)
+            for other in (Ratio(1, 3), 2, tooth_sum(1, 5), plain, one):
+                term = exact(other)
+                self.assertEqual([exact(one + other), exact(one - other), exact(one * other)], [value + term, value - term, value * term])
+                self.assertEqual([exact(other + one), exact(other - one), exact(other * one)], [value + term, term - value, value * term])
+                self.assertEqual(one.compare(other), (value > term) - (value < term))
+                if term:
+                    self.assertEqual(exact(one.over(other)), value / term)
+
+    def test_equality(self):
+        for one, value, plain in self.sums():
+            self.assertTrue(one == plain and plain == one and one == one + 0)
+            self.assertFalse(one != plain or plain != one)
+            for other in (plain + 1, -plain + 1, plain * 2 + 1, plain + Ratio(1, SIXTY)):
+                self.assertEqual((one == other, other == one), (value == exact(other),) * 2)
+            for other in (0, 1, -1, 2, 10 ** 100):
+                self.assertEqual((one == other, other == one), (value == other,) * 2)
+            for other in (True, False, None, str(one), (one,)):
+                self.assertFalse(one == other)
+
+    def test_as_arguments(self):
+        for one, value, plain in self.sums():
+            self.assertEqual(str(tooth(one)), str(tooth(plain)))
+            self.assertEqual(str(bend(one)), str(bend(plain)))
+            self.assertEqual(total((one, plain, 1)), plain * 2 + 1)
+            if max(abs(value.numerator), value.denominator) <= SIXTY:
+                # Only lowest terms of at most sixty digits may be passed there.
+                self.assertEqual(shifted_sum(3, 7, one, one), shifted_sum(3, 7, plain, plain))
+                rows = shifted_certificate(3, 7, one, 0)
+                self.assertIs(is_shifted_certificate(3, 7, plain, 0, rows), True)
+                self.assertIs(is_shifted_certificate(3, 7, one, 0, ((3, 7, one, 0, rows[0][4]), *rows[1:])), True)
+        # Before it is divided by 12 the denominator of this sum has sixty-one digits.
+        one = tooth_sum(10 ** 29, 10 ** 58 + 1) + 0
+        self.assertEqual((shifted_sum(3, 7, tooth_sum(10 ** 29 * 10, 10 ** 59 + 10), 0), one), (shifted_sum(3, 7, 0, 0), 0))
 
 
 class SumLawTests(unittest.TestCase):

@@ -3,7 +3,7 @@
 from math import gcd
 
 from toothchain.base.integers import checked_from, checked_integer, checked_pair
-from toothchain.base.ratios import ratio_of, terms_of
+from toothchain.base.ratios import terms_of, unreduced_ratio
 from toothchain.errors import InvalidOperation, TooMany
 from toothchain.sums.teeth import sum_top
 
@@ -13,7 +13,7 @@ MAX_CLASSES = 300
 def twelfths(a, b):
     """Twelve times the sum of a pair."""
     first, second = checked_pair(a, b)
-    return ratio_of(sum_top(first, second), second)
+    return unreduced_ratio(sum_top(first, second), second)
 
 
 def is_zero_sum(a, b):

@@ -1,7 +1,7 @@
 """Saw teeth, bends and the sums of products of teeth."""
 
 from toothchain.base.integers import checked_from, checked_pair
-from toothchain.base.ratios import ratio_of, terms_of
+from toothchain.base.ratios import ratio_of, terms_of, unreduced_ratio
 from toothchain.errors import InvalidOperation, TooMany
 
 MAX_PLAIN = 2000
@@ -54,7 +54,7 @@ def ladder_sum(a, b):
 
 def sum_of(a, b):
     """The sum s(a, b) of a pair of integers of any length."""
-    return ratio_of(sum_top(a, b), 12 * b)
+    return unreduced_ratio(sum_top(a, b), 12 * b)
 
 
 def sum_top(a, b):
@@ -91,16 +91,15 @@ def _steps(upper, lower):
     alternating, before, last = 0, 0, 1
     # Two steps at once, because the quotients change their signs in turn.
     while lower:
-        quotient = upper // lower
+        up = upper // lower
         upper = upper % lower
-        alternating = alternating + quotient
-        if upper == 0:
-            return alternating, last, lower, -3
-        before = before + quotient * last
-        quotient = lower // upper
+        if not upper:
+            return alternating + up, last, lower, -3
+        before = before + up * last
+        down = lower // upper
         lower = lower % upper
-        alternating = alternating - quotient
-        last = last + quotient * before
+        last = last + down * before
+        alternating = alternating + up - down
     return alternating, -before, upper, 0
 
 
