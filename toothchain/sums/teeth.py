@@ -107,6 +107,8 @@ def _long_sum_top(b, rest):
     """What `sum_top` gives for the pair (rest, b), faster for long integers."""
     # The upper digits of both integers are remainders. The lower ones are what `rest`
     # is multiplied by to get them, up to a multiple of b: so one division does for both.
+    # They are too short to change a quotient, but if `upper` would get the remainder 0:
+    # then this quotient is less by 1, and the next one is 1, which gives the same sum.
     bits = b.bit_length() + 2
     upper, lower = b << bits, (rest << bits) + 1
     alternating = 0
@@ -115,6 +117,8 @@ def _long_sum_top(b, rest):
         up, upper = divmod(upper, lower)
         down, lower = divmod(lower, upper)
         alternating = alternating + up - down
+    # Short remainders go on alone. What they add up to the common factor with, their
+    # lower digits add up to `last` with.
     one, other = -(-upper >> bits), lower >> bits
     more, factor, common, turn = _steps(one, other)
     last = (common - factor * other) // one * upper + factor * lower - (common << bits)
